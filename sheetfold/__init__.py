@@ -1,0 +1,1 @@
+"""Sheetfold: sheets of squares folded in space, and skins laid flat."""
