@@ -1,4 +1,4 @@
-"""The form of the package's code: those rules of LANGUAGE.md that can be read off the syntax."""
+"""The form of the package's code: a part of the rules of LANGUAGE.md, not all of them (README.md says which)."""
 
 import ast
 import builtins
