@@ -101,8 +101,9 @@ class EachFaultAlone(Refusals):
             self.assert_no_sheet(ROW[:3], joins, ("join", k))
             joins[k] = ((3, 0), (2, 0), 0)
             self.assert_no_sheet(ROW[:3], joins, ("join", k))
-            joins[k] = ((7, 7), (7, 8), 0)
-            self.assert_no_sheet(ROW[:3], joins, ("join", k))
+            for join in [((-1, 0), (0, 0), 0), ((1, 0), (1, -1), 0), ((7, 7), (7, 8), 0)]:
+                joins[k] = join
+                self.assert_no_sheet(ROW[:3], joins, ("join", k))
         self.assert_no_sheet([(0, 0)], [((0, 0), (FAR, FAR), 0)], ("join", 0))
 
     def test_a_join_of_cells_that_are_no_neighbours(self):
