@@ -1,7 +1,7 @@
 """Sheets folded in space (points 14 to 16)."""
 
 from sheetfold.errors import NoWay
-from sheetfold.hanging import links_of, reached_from
+from sheetfold.hanging import first_meeting, links_of, path_between, reached_from
 from sheetfold.joins import join_of
 from sheetfold.sheets import neighbours
 
@@ -28,7 +28,8 @@ def folded(sheet, first=0, pose=None):
     poses = poses_along(steps, origins, START if pose is None else pose)
     for join in sheet[1]:
         if led_by(steps[(join[0], join[1])], poses[join[0]]) != poses[join[1]]:
-            return ("ring", ring_through(origins, join[0], join[1]))
+            # The join itself leads from the last cell of this path back to its first one.
+            return ("ring", path_between(origins, join[0], join[1]))
     return clash_or_folded([poses[k] for k in range(len(sheet[0]))])
 
 
@@ -40,32 +41,11 @@ def poses_along(steps, origins, pose):
     return poses
 
 
-def ring_through(origins, i, j):
-    """The ring of the join from i to j and the cells by which both were reached."""
-    there = path_back(origins, i)
-    back = path_back(origins, j)
-    # What both have in common at their ends is gone there and back again, so it is left out but for one cell.
-    while len(there) > 1 and len(back) > 1 and there[-2] == back[-2]:
-        there.pop()
-        back.pop()
-    return list(reversed(there)) + back[:-1]
-
-
-def path_back(origins, k):
-    path = []
-    while k is not None:
-        path.append(k)
-        k = origins[k]
-    return path
-
-
 def clash_or_folded(poses):
-    numbers = {}
-    for j, pose in enumerate(poses):
-        if pose[0] in numbers:
-            return ("clash", numbers[pose[0]], j)
-        numbers[pose[0]] = j
-    return ("folded", poses)
+    meeting = first_meeting([pose[0] for pose in poses])
+    if meeting is None:
+        return ("folded", poses)
+    return ("clash", meeting[0], meeting[1])
 
 
 def walked(sheet, numbers, pose):

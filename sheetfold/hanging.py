@@ -44,3 +44,45 @@ def least_apart(count, pairs):
         if k not in reached:
             return k
     return None
+
+
+def first_ring(count, pairs):
+    """The place of the first pair whose numbers hang together already by the pairs ahead of it, or None."""
+    groups = list(range(count))
+    for k, pair in enumerate(pairs):
+        one = groups[pair[0]]
+        other = groups[pair[1]]
+        if one == other:
+            return k
+        groups = [one if group == other else group for group in groups]
+    return None
+
+
+def first_meeting(things):
+    """(i, j): j the least number of a thing of the list that stands in it ahead, too, as number i; or None."""
+    numbers = {}
+    for j, thing in enumerate(things):
+        if thing in numbers:
+            return (numbers[thing], j)
+        numbers[thing] = j
+    return None
+
+
+def path_back(origins, k):
+    """The numbers by which k was reached, from itself back to the start."""
+    path = []
+    while k is not None:
+        path.append(k)
+        k = origins[k]
+    return path
+
+
+def path_between(origins, i, j):
+    """The numbers from i to j by those from which each was reached."""
+    there = path_back(origins, i)
+    back = path_back(origins, j)
+    # What both have in common at their ends is gone there and back again, so it is left out but for one number.
+    while len(there) > 1 and len(back) > 1 and there[-2] == back[-2]:
+        there.pop()
+        back.pop()
+    return there + list(reversed(back[:-1]))

@@ -4,6 +4,9 @@ from sheetfold.errors import NoBend
 from sheetfold.moves import out_of
 from sheetfold.turns import added, cross, is_whole, joined_turns, negated, turn_back, turned
 
+# Bent down, flat, bent up.
+BENDS = (-1, 0, 1)
+
 
 def unit_of(pose, way):
     return (pose[1], pose[2], negated(pose[1]), negated(pose[2]))[way]
@@ -50,7 +53,7 @@ class Down(Join):
 
 
 def is_bend(thing):
-    return is_whole(thing) and -1 <= thing <= 1
+    return is_whole(thing) and thing in BENDS
 
 
 def join_of(bend):

@@ -20,16 +20,21 @@ def sheet_of(cells, joins):
     twice = least_twice(cells)
     if twice is not None:
         raise NoSheet(("twice", twice))
-    ordered = sorted(cells)
-    numbered = numbered_joins(ordered, joins)
-    apart = least_apart(count, numbered)
+    sheet = sheet_from(cells, joins)
+    apart = least_apart(count, sheet[1])
     if apart is not None:
         raise NoSheet(("apart", apart))
-    return (ordered, numbered)
+    return sheet
+
+
+def sheet_from(cells, joins):
+    """Cells and joins put in order as a sheet has them; the first join that is none is refused."""
+    ordered = sorted(cells)
+    return (ordered, numbered_joins(ordered, joins))
 
 
 def numbered_joins(cells, joins):
-    """The joins with numbers in the place of cells, rising; the first that is none is refused."""
+    """The joins with numbers in the place of cells, rising."""
     numbers = numbers_of(cells)
     bends = {}
     for k, join in enumerate(joins):

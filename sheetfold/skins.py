@@ -2,7 +2,7 @@
 
 from sheetfold.errors import Crowded
 from sheetfold.hanging import numbers_of
-from sheetfold.solids import outward
+from sheetfold.solids import outward_from
 from sheetfold.squares import axis_of, edge_counts, skin_of, squares_at
 from sheetfold.turns import UNITS, added, cross, negated
 
@@ -33,12 +33,12 @@ def bend_over(solid, square, edge, other):
     beyond = added(other, negated(edge))
     if beyond == added(edge, negated(square)):
         return 0
-    return 1 if beyond == outward(solid, square) else -1
+    return 1 if beyond == outward_from(solid, square) else -1
 
 
 def pose_on(solid, i):
     square = skin_of(solid)[i]
-    out = outward(solid, square)
+    out = outward_from(solid, square)
     axis = axis_of(square)
     right = max([unit for unit in UNITS if unit[axis] == 0])
     return (square, right, cross(out, right))

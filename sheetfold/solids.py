@@ -35,6 +35,11 @@ def side_pairs(cubes):
 def outward(solid, square):
     if square not in skin_of(solid):
         raise NoSquare("the square is no part of the solid's skin")
+    return outward_from(solid, square)
+
+
+def outward_from(solid, square):
+    """As outward, where the square is known to be one of the skin."""
     pair = cubes_at(square)
     within = pair[0] if pair[0] in solid else pair[1]
     return added(square, negated(middle_of(within)))

@@ -52,6 +52,20 @@ def between(square):
     return tuple(tuple((n - 1) // 2 for n in end) for end in ends)
 
 
+def remembered(reckon):
+    """The same reckoning of a list of tuples, done once for each list: several tests ask for it again and again."""
+    told = {}
+
+    def ask(things):
+        key = tuple(things)
+        if key not in told:
+            told[key] = reckon(things)
+        return list(told[key])
+
+    return ask
+
+
+@remembered
 def plain_skin(cubes):
     squares = {square for cube in cubes for square in sides(cube)}
     return sorted(s for s in squares if sum(cube in cubes for cube in between(s)) == 1)
@@ -94,6 +108,7 @@ def plain_crowded(solid):
     return min(crowds, default=None)
 
 
+@remembered
 def plain_joins(solid):
     """Point 22 by how many cubes of the solid stand round each edge: one, two side by side, or three."""
     skin = plain_skin(solid)
@@ -143,3 +158,14 @@ EVERY_SOLID += [shifted_cubes(solid, shift) for solid in SMALL_SOLIDS[::9] + [BR
 EVERY_SOLID += [shifted_cubes(solid, (-2, -1, -3)) for solid in FIVES[::40] + SIXES[::400]]
 EASY_SOLIDS = [solid for solid in EVERY_SOLID if plain_crowded(solid) is None]
 CROWDED_SOLIDS = [solid for solid in FIVES + SIXES[::4] + EVERY_SOLID if plain_crowded(solid) is not None]
+
+
+def random_tree(draws, solid):
+    """Pairs of a tree of the skin, in whatever order."""
+    groups = list(range(len(plain_skin(solid))))
+    pairs = []
+    for i, j, bend in draws.shuffled(plain_joins(solid)):
+        if groups[i] != groups[j]:
+            pairs.append((i, j))
+            groups = [groups[i] if group == groups[j] else group for group in groups]
+    return pairs
