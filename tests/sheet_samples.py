@@ -223,3 +223,28 @@ def plain_folded(sheet, first=0, pose=START):
             if poses[i][0] == poses[j][0]:
                 return ("clash", i, j)
     return ("folded", poses)
+
+
+def to_nought(places):
+    """The places, rising, so shifted that the least number at each place is 0."""
+    return sorted(tuple(n - min(other[k] for other in places) for k, n in enumerate(place)) for place in places)
+
+
+def plain_cell_turned(cell, k):
+    x, y = cell
+    for _ in range(k % 4):
+        x, y = -y, x
+    return (-x, y) if k >= 4 else (x, y)
+
+
+def plain_sheet_turned(sheet, k, shift=(0, 0)):
+    cells = [plus(plain_cell_turned(cell, k), shift) for cell in sheet[0]]
+    return plain_sheet(cells, [(cells[i], cells[j], -bend if k >= 4 else bend) for i, j, bend in sheet[1]])
+
+
+def plain_least_sheet(sheet):
+    tellings = []
+    for k in range(8):
+        cells, joins = plain_sheet_turned(sheet, k)
+        tellings.append((to_nought(cells), joins))
+    return min(tellings)

@@ -3,7 +3,7 @@
 import itertools
 
 from samples import UNITS
-from sheet_samples import Draws, minus, plus
+from sheet_samples import Draws, around, minus, plain_sheet, plus, quick_led
 
 FAR = 10 ** 20
 
@@ -39,6 +39,8 @@ SIXES = solids(6)
 
 # Two cubes that touch at an edge alone, and hang together by way of three others: the shortest crowded solid.
 BRIDGE = [(0, 0, 0), (0, 0, 1), (0, 1, 1), (1, 1, 0), (1, 1, 1)]
+# No solid of six cubes has two crowded edges, so "the least" can be tried only with one cube more.
+TWO_CROWDS = [(0, 0, 0), (0, 0, 1), (0, 0, 2), (0, 1, 2), (1, 1, 0), (1, 1, 1), (1, 1, 2)]
 HOLLOW_6 = sorted(UNITS)
 HOLLOW_26 = [cube for cube in itertools.product([-1, 0, 1], repeat=3) if cube != (0, 0, 0)]
 FAR_SHIFTS = [(FAR - 3, 3 - FAR, FAR - 3), (3 - FAR, 0, 3 - FAR)]
@@ -169,3 +171,36 @@ def random_tree(draws, solid):
             pairs.append((i, j))
             groups = [groups[i] if group == groups[j] else group for group in groups]
     return pairs
+
+
+def first_pose(solid):
+    """The pose on square 0, which has the lowest first number: it lies across the first axis and faces downward."""
+    return (plain_skin(solid)[0], (0, 1, 0), (0, 0, -1))
+
+
+def plain_laid(solid, pairs):
+    """Point 25 square by square: the cell and the pose of each one."""
+    skin = plain_skin(solid)
+    bends = {join[:2]: join[2] for join in plain_joins(solid)}
+    placed = {0: ((0, 0), first_pose(solid))}
+    while len(placed) < len(skin):
+        for pair in pairs:
+            for i, j in [pair, pair[::-1]]:
+                if i in placed and j not in placed:
+                    cell, pose = placed[i]
+                    edge = (set(edges_in(skin[i])) & set(edges_in(skin[j]))).pop()
+                    unit = plus(edge, minus(skin[i]))
+                    way = [pose[1], pose[2], minus(pose[1]), minus(pose[2])].index(unit)
+                    placed[j] = (around(cell)[way], quick_led(bends[pair], pose, way))
+    return placed
+
+
+def plain_laid_flat(solid, pairs):
+    """The answer of point 25 to a right tree."""
+    cells = [place[0] for number, place in sorted(plain_laid(solid, pairs).items())]
+    for j in range(len(cells)):
+        if cells[j] in cells[:j]:
+            return ("lap", cells.index(cells[j]), j)
+    bends = {join[:2]: join[2] for join in plain_joins(solid)}
+    sheet = plain_sheet(cells, [(cells[i], cells[j], bends[i, j]) for i, j in pairs])
+    return ("flat", sheet, [cells.index(cell) for cell in sheet[0]])

@@ -4,7 +4,10 @@ import unittest
 
 from keeping import ask_and_wreck, refused_and_kept
 from samples import BIG, PLAIN_TURN, TURNS, is_spot, is_turn_by_kind
-from sheet_samples import FAR, MANY, SHEETS, SMALL, Draws, minus, plain_folded, plain_sheet, plain_turned, plus
+from sheet_samples import (
+    FAR, MANY, SHEETS, SMALL, Draws, minus, plain_cell_turned, plain_folded, plain_least_sheet, plain_sheet_turned,
+    plain_turned, plus, to_nought,
+)
 from sheetfold.drawings import sheet_read
 from sheetfold.errors import NoTurn
 from sheetfold.likes import least_sheet, least_solid, same_sheets, same_solids, sheet_turned, solid_turned
@@ -26,33 +29,8 @@ def plain_solid_turned(solid, turn, shift=(0, 0, 0)):
     return sorted(plus(tuple((n - 1) // 2 for n in spot), shift) for spot in middles)
 
 
-def to_nought(places):
-    """The places, rising, so shifted that the least number at each place is 0."""
-    return sorted(tuple(n - min(other[k] for other in places) for k, n in enumerate(place)) for place in places)
-
-
 def plain_least_solid(solid):
     return min(to_nought(plain_solid_turned(solid, turn)) for turn in TURNS)
-
-
-def plain_cell_turned(cell, k):
-    x, y = cell
-    for _ in range(k % 4):
-        x, y = -y, x
-    return (-x, y) if k >= 4 else (x, y)
-
-
-def plain_sheet_turned(sheet, k, shift=(0, 0)):
-    cells = [plus(plain_cell_turned(cell, k), shift) for cell in sheet[0]]
-    return plain_sheet(cells, [(cells[i], cells[j], -bend if k >= 4 else bend) for i, j, bend in sheet[1]])
-
-
-def plain_least_sheet(sheet):
-    tellings = []
-    for k in range(8):
-        cells, joins = plain_sheet_turned(sheet, k)
-        tellings.append((to_nought(cells), joins))
-    return min(tellings)
 
 
 class SolidTurned(unittest.TestCase):

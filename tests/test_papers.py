@@ -195,7 +195,8 @@ class DoesNotHold(unittest.TestCase):
 
     def test_clash_lists_that_are_none(self):
         wrong = [[], [0], [4], [9], [-1], [0, 0], [0, 1], [0, 1, 2, 3], [1, 2, 3, 4], [0, 1, 2, 3, 4, 5], [0, 4], [0, 4, 0]]
-        wrong += [[0, 1, 2, 3, 3, 4], [0, 1, 2, 3, 4, 3, 2, 1, 0], [5, 4, 3, 2, 1, 0], [-6, -5, -4, -3, -2], [0, 1, 2, 3, BIG]]
+        wrong += [[0, 1, 2, 3, 3, 4], [0, 1, 2, 3, 4, 3, 2, 1, 0], [5, 4, 3, 2, 1, 0], [-6, -5, -4, -3, -2]]
+        wrong += [[0, 1, 2, 3, BIG], [0, 1, 2, 3, -2]]
         for numbers in wrong:
             self.assert_false(ROW, [], ("clash", numbers))
 

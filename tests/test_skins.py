@@ -8,13 +8,11 @@ from sheet_samples import minus, plain_cross, plain_led, plus
 from sheetfold.errors import Crowded
 from sheetfold.skins import crowded, pose_on, skin_joins
 from solid_samples import (
-    BRIDGE, CROWDED_SOLIDS, EASY_SOLIDS, EVERY_SOLID, FIVES, SMALL_SOLIDS, edges_in, plain_crowded, plain_joins,
-    plain_outward, plain_skin, shifted_cubes,
+    BRIDGE, CROWDED_SOLIDS, EASY_SOLIDS, EVERY_SOLID, FIVES, SMALL_SOLIDS, TWO_CROWDS, edges_in, plain_crowded,
+    plain_joins, plain_outward, plain_skin, shifted_cubes,
 )
 
 CORNER = [(0, 0, 0), (0, 1, 0), (1, 0, 0)]
-# No solid of six cubes has two crowded edges, so "the least" can be tried only with one cube more.
-TWO_CROWDS = [(0, 0, 0), (0, 0, 1), (0, 0, 2), (0, 1, 2), (1, 1, 0), (1, 1, 1), (1, 1, 2)]
 
 
 class Crowds(unittest.TestCase):

@@ -4,13 +4,13 @@ import unittest
 
 from keeping import ask_and_wreck, refused_and_kept
 from samples import BIG
-from sheet_samples import Draws, around, minus, plain_cross, plain_folded, plain_sheet, plus, quick_led
+from sheet_samples import Draws, plain_cross, plain_folded
 from sheetfold.errors import Crowded, NoTree
 from sheetfold.slits import laid, tree_fault
 from sheetfold.squares import closing
 from solid_samples import (
-    BRIDGE, CROWDED_SOLIDS, EASY_SOLIDS, FAR_SHIFTS, FIVES, SIXES, edges_in, odd_edges, plain_crowded, plain_joins,
-    plain_outward, plain_skin, random_tree, shifted_cubes,
+    BRIDGE, CROWDED_SOLIDS, EASY_SOLIDS, FAR_SHIFTS, FIVES, SIXES, TWO_CROWDS, first_pose, odd_edges, plain_crowded,
+    plain_joins, plain_laid, plain_laid_flat, plain_outward, plain_skin, random_tree, shifted_cubes,
 )
 
 CUBE = [(0, 0, 0)]
@@ -52,38 +52,6 @@ def plain_fault(solid, pairs):
         if k not in plain_hanging(pairs, 0):
             return ("apart", k)
     return None
-
-
-def first_pose(solid):
-    """The pose on square 0, which has the lowest first number: it lies across the first axis and faces downward."""
-    return (plain_skin(solid)[0], (0, 1, 0), (0, 0, -1))
-
-
-def plain_laid(solid, pairs):
-    """Point 25 square by square: the cell and the pose of each one."""
-    skin = plain_skin(solid)
-    bends = {join[:2]: join[2] for join in plain_joins(solid)}
-    laid_so_far = {0: ((0, 0), first_pose(solid))}
-    while len(laid_so_far) < len(skin):
-        for pair in pairs:
-            for i, j in [pair, pair[::-1]]:
-                if i in laid_so_far and j not in laid_so_far:
-                    cell, pose = laid_so_far[i]
-                    edge = (set(edges_in(skin[i])) & set(edges_in(skin[j]))).pop()
-                    unit = plus(edge, minus(skin[i]))
-                    way = [pose[1], pose[2], minus(pose[1]), minus(pose[2])].index(unit)
-                    laid_so_far[j] = (around(cell)[way], quick_led(bends[pair], pose, way))
-    return laid_so_far
-
-
-def plain_answer(solid, pairs):
-    cells = [place[0] for number, place in sorted(plain_laid(solid, pairs).items())]
-    for j in range(len(cells)):
-        if cells[j] in cells[:j]:
-            return ("lap", cells.index(cells[j]), j)
-    bends = {join[:2]: join[2] for join in plain_joins(solid)}
-    sheet = plain_sheet(cells, [(cells[i], cells[j], bends[i, j]) for i, j in pairs])
-    return ("flat", sheet, [cells.index(cell) for cell in sheet[0]])
 
 
 class NoFault(unittest.TestCase):
@@ -216,10 +184,8 @@ class CrowdedOnes(unittest.TestCase):
                     self.assertEqual(repr(error.edge), repr(edge))
 
     def test_the_least_edge_of_two(self):
-        # Six cubes have one crowded edge at most; these are seven.
-        solid = [(0, 0, 0), (0, 0, 1), (0, 0, 2), (0, 1, 2), (1, 1, 0), (1, 1, 1), (1, 1, 2)]
         for ask in [tree_fault, laid]:
-            self.assertEqual(refused_and_kept(self, Crowded, ask, solid, []).edge, (2, 2, 1))
+            self.assertEqual(refused_and_kept(self, Crowded, ask, TWO_CROWDS, []).edge, (2, 2, 1))
 
 
 class Laid(unittest.TestCase):
@@ -233,7 +199,7 @@ class Laid(unittest.TestCase):
 
     def test_samples_against_a_plain_reckoning(self):
         for solid, pairs in TREES:
-            self.assertEqual(repr(laid(solid, pairs)), repr(plain_answer(solid, pairs)))
+            self.assertEqual(repr(laid(solid, pairs)), repr(plain_laid_flat(solid, pairs)))
 
     def test_the_order_of_the_pairs_does_not_count(self):
         draws = Draws(45)
@@ -263,7 +229,7 @@ class Laid(unittest.TestCase):
 
 
 class FoldedAgain(unittest.TestCase):
-    FLAT = [(solid, laid(solid, pairs)) for solid, pairs in TREES if plain_answer(solid, pairs)[0] == "flat"]
+    FLAT = [(solid, laid(solid, pairs)) for solid, pairs in TREES if plain_laid_flat(solid, pairs)[0] == "flat"]
 
     def test_it_is_the_skin_square_by_square(self):
         for solid, (kind, sheet, numbers) in self.FLAT:
