@@ -122,7 +122,7 @@ def laid_sheets(draws):
     """Sheets that close a solid: bare trees, and some with each further join that fits."""
     sheets = []
     for solid in [[(0, 0, 0)], [(0, 0, 0), (0, 0, 1)], [(0, 0, 0), (0, 1, 0), (1, 0, 0)], BOX]:
-        for _ in range(12):
+        for _ in range(8):
             told = laid(solid, random_tree(draws, solid))
             if told[0] == "flat":
                 sheets.append(told[1])
@@ -152,11 +152,11 @@ def bend_cases():
     """Sheets with lists of free places: none to six of them."""
     draws = Draws(61)
     cases = [(CROSS, [0, 1, 2, 3, 4]), (STAIR, [0, 1, 2, 3, 4]), (TWO_WAYS, [2, 3, 6, 7, 8, 9])]
-    cases += [(sheet, list(range(len(sheet[1])))) for sheet in SMALL[::9]]
-    cases += [(sheet, some_places(draws, sheet, draws.below(4))) for sheet in SMALL[::15] + MANY[::2]]
-    cases += [(sheet, some_places(draws, sheet, 4)) for sheet in MANY[1::10]]
+    cases += [(sheet, list(range(len(sheet[1])))) for sheet in SMALL[::16]]
+    cases += [(sheet, some_places(draws, sheet, draws.below(4))) for sheet in SMALL[::25] + MANY[::4]]
+    cases += [(sheet, some_places(draws, sheet, 4)) for sheet in MANY[1::16]]
     cases += [(sheet, some_places(draws, sheet, count)) for sheet in LAID for count in (0, 2, 4)]
-    cases += [(sheet, some_places(draws, sheet, count)) for sheet in LAID[::9] + MANY[10::60] for count in (5, 6)]
+    cases += [(sheet, some_places(draws, sheet, count)) for sheet in LAID[::16] + MANY[10::90] for count in (5, 6)]
     return cases
 
 

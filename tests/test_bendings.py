@@ -158,7 +158,7 @@ class Samples(unittest.TestCase):
 
     def test_many_kinds_are_among_them(self):
         self.assertEqual({len(free) for sheet, free, told in TOLD}, {0, 1, 2, 3, 4, 5, 6})
-        self.assertGreater(sum(len(told[0]) > 1 for sheet, free, told in TOLD), 5)
+        self.assertGreater(sum(len(told[0]) > 1 for sheet, free, told in TOLD), 3)
         rings = [sheet for sheet, free, told in TOLD if len(sheet[1]) >= len(sheet[0]) and told[0]]
         self.assertGreater(len(rings), 5)
 

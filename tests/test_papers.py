@@ -17,7 +17,7 @@ TWO = sheet_read("#^#")
 FOUR = sheet_read("#+#/+.+/#+#")
 ROW = sheet_read("#^#^#^#^#+#")
 OPEN = ("open", (0, 1, 0))
-SOME = [(sheet, free) for sheet, free in CASES if len(free) <= 4][::4] + [(CROSS, [0, 1, 2, 3, 4]), (FOUR, [0, 1, 2, 3])]
+SOME = [(sheet, free) for sheet, free in CASES if len(free) <= 4][::3] + [(CROSS, [0, 1, 2, 3, 4]), (FOUR, [0, 1, 2, 3])]
 
 
 def bad_part(part):
@@ -131,12 +131,12 @@ class Holds(unittest.TestCase):
     def test_the_free_joins_chosen_in_another_order(self):
         draws = Draws(71)
         unlike = 0
-        for sheet, free in CASES[::2]:
+        for sheet, free in CASES:
             if len(free) <= 4:
                 paper = paper_in_any_order(draws, sheet, free, fixed_bends(sheet, free))
                 self.assertIs(paper_holds(sheet, free, paper), True, (sheet, free, paper))
                 unlike += paper != bendings(sheet, free)[1]
-        self.assertGreater(unlike, 100)
+        self.assertGreater(unlike, 50)
 
     def test_six_free_joins_in_another_order(self):
         draws = Draws(72)
@@ -267,7 +267,7 @@ class DoesNotHold(unittest.TestCase):
     def test_one_wrong_end_of_many(self):
         sheet, free = CROSS, [0, 1, 2, 3, 4]
         paper = bendings(sheet, free)[1]
-        for way in [way for way in ways_within(paper) if taken(paper, way)[0] != "bend"]:
+        for way in [way for way in ways_within(paper) if taken(paper, way)[0] != "bend"][::4]:
             self.assertIs(paper_holds(sheet, free, put(paper, way, ("open", (1, 1, 1)))), False)
 
     def test_forty_tuples_within_one_another(self):

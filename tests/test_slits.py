@@ -24,7 +24,7 @@ def some_trees():
     """Solids that aren't crowded, each with some of its trees."""
     draws = Draws(41)
     solids = EASY_SOLIDS + [solid for solid in SIXES[::50] + FIVES[::10] if plain_crowded(solid) is None] + FAR_SOLIDS
-    return [(solid, random_tree(draws, solid)) for solid in solids for _ in range(2)]
+    return [(solid, random_tree(draws, solid)) for solid in solids for _ in range(1 if len(solid) > 4 else 2)]
 
 
 TREES = some_trees()
